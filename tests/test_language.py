@@ -33,6 +33,13 @@ with_traceback add_note eval exec globals locals vars id dir help exit quit comp
 BARRED_NODES = (ast.Global, ast.AsyncFunctionDef, ast.Await, ast.AsyncFor, ast.AsyncWith, ast.Div,
                 ast.Import, ast.TryStar)
 DECORATORS = "^(property|staticmethod|classmethod|[a-z_]+[.]setter)$"
+SPECIAL = set("""__init__ __eq__ __repr__ __str__ __len__ __enter__ __exit__ __call__ __iter__ __bool__
+__contains__ __getitem__ __setitem__ __or__ __ior__""".split())
+# A doctest leaves a builtin of this name behind.
+BUILTIN_NAMES = set(dir(builtins)) - {"_"}
+TAKE_LISTS = ("any", "all", "min", "max", "sum", "sorted")
+ATTRIBUTES_BARRED = set("""items keys values pop update append clear extend insert remove reverse setdefault
+sort args encode decode hex fromhex format format_map mro""".split())
 
 
 def nodes(path, *kinds):
@@ -98,7 +105,7 @@ class WordsTest(unittest.TestCase):
 
     def test_only_some_builtins_are_used(self):
         for path in FILES:
-            used = {node.id for node in nodes(path, ast.Name) if hasattr(builtins, node.id)}
+            used = {node.id for node in nodes(path, ast.Name) if node.id in BUILTIN_NAMES}
             self.assertLessEqual(used, BUILTINS, path)
 
     def test_no_name_is_that_of_a_builtin_or_barred(self):
@@ -106,7 +113,7 @@ class WordsTest(unittest.TestCase):
                    for node in holder.body if isinstance(node, ast.FunctionDef)}
         for path in FILES:
             for name in bound_names(path):
-                self.assertTrue(name in methods or not hasattr(builtins, name), (path, name))
+                self.assertTrue(name in methods or name not in BUILTIN_NAMES, (path, name))
                 self.assertNotIn(name, BARRED, path)
 
     def test_only_some_methods_are_called(self):
@@ -126,6 +133,104 @@ class WordsTest(unittest.TestCase):
             rows = [line.partition("#")[0] for line in text.split("\n")]
             words = re.findall("[A-Za-z_]+", "\n".join(rows))
             self.assertEqual(BARRED & set(words), set(), path)
+
+
+class ClassesTest(unittest.TestCase):
+    def classes(self):
+        """Return triples (path, class, list of its functions)."""
+        return [(path, holder, [node for node in holder.body if isinstance(node, ast.FunctionDef)])
+                for path in FILES for holder in nodes(path, ast.ClassDef)]
+
+    def test_double_underscore_methods(self):
+        for path, holder, methods in self.classes():
+            names = [node.name for node in methods]
+            self.assertLessEqual({name for name in names if name.startswith("__")}, SPECIAL, (path, holder.name))
+            self.assertTrue("__getitem__" not in names or "__iter__" in names, (path, holder.name))
+            self.assertEqual(holder.decorator_list, [])
+
+    def test_no_name_is_a_method_and_an_attribute_of_a_class(self):
+        for path, holder, methods in self.classes():
+            found = {node.attr for node in ast.walk(holder) if isinstance(node, ast.Attribute)
+                     and isinstance(node.ctx, ast.Store)}
+            setters = {node.name for node in methods if "setter" in "".join(map(ast.unparse, node.decorator_list))}
+            self.assertEqual(found & ({node.name for node in methods} - setters), set(), (path, holder.name))
+            self.assertEqual(found & ATTRIBUTES_BARRED, set(), (path, holder.name))
+
+    def test_nothing_is_called_keys_beside_getitem(self):
+        for path in FILES:
+            text = path.read_text()
+            for word in ("(type)", "Meta", "metaclass="):
+                self.assertNotIn(word, text, path)
+            self.assertNotIn("keys", [node.name for node in nodes(path, ast.FunctionDef)])
+
+    def test_methods_are_read_off_no_class(self):
+        names = {holder.name for _, holder, _ in self.classes()}
+        static = {node.name for _, _, methods in self.classes() for node in methods if node.decorator_list}
+        for path in FILES:
+            for node in nodes(path, ast.Attribute):
+                if isinstance(node.value, ast.Name) and node.value.id in names:
+                    self.assertTrue(node.attr in static or node.attr.isupper(), (path, node.lineno))
+
+
+class FormsTest(unittest.TestCase):
+    def test_module_level(self):
+        kinds = (ast.Expr, ast.ImportFrom, ast.FunctionDef, ast.ClassDef, ast.Assign)
+        for path in FILES:
+            for node in ast.parse(path.read_text()).body:
+                self.assertIsInstance(node, kinds, path)
+                if isinstance(node, ast.Assign):
+                    ast.literal_eval(node.value)
+                    self.assertEqual(len(node.targets), 1)
+
+    def test_imports_make_no_circle(self):
+        imports = {f"bestheard.{path.stem}": [node.module for node in nodes(path, ast.ImportFrom)] for path in FILES}
+
+        def reached(module, path):
+            self.assertNotIn(module, path)
+            for other in imports.get(module, []):
+                reached(other, [*path, module])
+
+        for module in imports:
+            reached(module, [])
+
+    def test_lists_are_taken_instead_of_generator_expressions(self):
+        for path in FILES:
+            for node in nodes(path, ast.Call):
+                if isinstance(node.func, ast.Name) and node.func.id in TAKE_LISTS:
+                    self.assertFalse(any(isinstance(item, ast.GeneratorExp) for item in node.args), (path, node.lineno))
+                if isinstance(node.func, ast.Attribute):
+                    self.assertNotEqual(node.func.attr, "sort", (path, node.lineno))
+
+    def test_is_stands_beside_constants(self):
+        for path in FILES:
+            for node in nodes(path, ast.Compare):
+                for sign, other in zip(node.ops, node.comparators):
+                    if isinstance(sign, (ast.Is, ast.IsNot)):
+                        self.assertIn(ast.unparse(other), ("None", "True", "False"), (path, node.lineno))
+
+    def test_no_local_name_is_that_of_an_import_or_a_class(self):
+        for path in FILES:
+            taken = {alias.asname or alias.name for node in nodes(path, ast.ImportFrom) for alias in node.names}
+            taken |= {node.name for node in nodes(path, ast.ClassDef)}
+            local = {node.id for node in nodes(path, ast.Name) if not isinstance(node.ctx, ast.Load)}
+            local |= {node.arg for node in nodes(path, ast.arg)}
+            self.assertEqual(taken & local, set(), path)
+
+    def test_views_are_iterated_at_once(self):
+        for path in FILES:
+            tree = ast.parse(path.read_text())
+            over = [node.iter for node in ast.walk(tree) if isinstance(node, (ast.For, ast.comprehension))]
+            for node in ast.walk(tree):
+                if isinstance(node, ast.Call) and isinstance(node.func, ast.Name):
+                    over += node.args[:1] if node.func.id in ("list", "tuple", "dict", *TAKE_LISTS) else []
+                    over += node.args if node.func.id in ("zip", "enumerate") else []
+            for node in ast.walk(tree):
+                if isinstance(node, ast.Call) and isinstance(node.func, ast.Attribute) and not node.args:
+                    if node.func.attr in ("items", "values", "keys"):
+                        self.assertIn(node, over, (path, node.lineno))
+                if isinstance(node, ast.Call) and isinstance(node.func, ast.Name):
+                    if node.func.id in ("zip", "enumerate", "reversed", "range"):
+                        self.assertIn(node, over, (path, node.lineno))
 
 
 if __name__ == "__main__":

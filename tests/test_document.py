@@ -1,0 +1,56 @@
+"""Tests that the examples of the document hold, for the modules that are there."""
+
+import doctest
+import unittest
+
+EXAMPLES = {
+    "words and cases": """
+>>> from bestheard.cases import applied, read_case
+>>> fields = [('age', ('0', '1', '2')), ('via', ('a', 'b'))]
+>>> program = (read_case('when age=2 do drop'), read_case('when always do age+, via:b'))
+>>> [program[0], applied(fields, program, ('1', 'a')), applied(fields, program, ('2', 'a'))]
+[((('age', '=', '2'),), None), ('2', 'b'), None]
+""",
+    "rulebooks": r"""
+>>> from bestheard.rulebooks import Rulebook
+>>> text = ('field age 0 1 2\ntie link\nwhen age=2 do drop\nwhen always do age+\n'
+...         'cell plain age+\ncell root\nborn 0\n')
+>>> book = Rulebook.read(text)
+>>> [book.text() == text, book.offer('link', 'plain', ('0',)), book.best('plain', ('2',), None, ('1',))]
+[True, ('1',), ('1',)]
+>>> book.order('plain')
+[('0',), ('1',), ('2',), None]
+""",
+    "networks": r"""
+>>> from bestheard.networks import Network
+>>> net = Network.read('cell a root\ncell b plain\ncell c plain\ntie link a b\ntie link b c\n')
+>>> net.set_kind('c', 'far')
+>>> [list(net.walk('a')), net['c'], 'd' in net, len(net), net.ties_into('b')]
+[[('a', 0), ('b', 1), ('c', 2)], 'far', False, 3, [('link', 'a', 'b')]]
+""",
+    "reprs": r"""
+>>> from bestheard.networks import Network
+>>> from bestheard.rulebooks import Rulebook
+>>> from bestheard.tables import tables_of
+>>> book = Rulebook.read('field a 0 1\nfield b 0 1\ntie t\nwhen always do keep\ncell k\n')
+>>> book
+Rulebook(2 fields, 1 ties, 1 kinds)
+>>> Network.read('cell a root\ncell b plain\ncell c plain\ntie link a b\ntie link b c\n')
+Network(3 cells, 2 ties)
+>>> tables_of(Rulebook.read('field a 0 1 2\ntie t\nwhen always do keep\ncell k\ncell l\ncell m\n'))
+Tables(3 kinds, 1 ties, 4 places)
+""",
+}
+
+
+class DocumentTest(unittest.TestCase):
+    def test_examples(self):
+        for name, text in EXAMPLES.items():
+            example = doctest.DocTestParser().get_doctest(text, {}, name, None, 0)
+            found = doctest.DocTestRunner().run(example)
+            self.assertEqual([name, found.failed], [name, 0])
+            self.assertGreater(found.attempted, 0)
+
+
+if __name__ == "__main__":
+    unittest.main()
