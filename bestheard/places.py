@@ -45,3 +45,9 @@ def place_found(tables, network, cell, ties, places):
     kind = network[cell]
     offers = [tables.lead(tie, network[source], kind, places[source]) for tie, source, _ in ties]
     return min([tables.birth(kind), *offers])
+
+
+def places_after(tables, network, places):
+    """Return the dict of the places that the cells find by looking at these places."""
+    ties = ties_by_target(network)
+    return {cell: place_found(tables, network, cell, ties[cell], places) for cell in network.cells()}

@@ -1,7 +1,7 @@
 """Rounds: what cells find by looking at a state, and the states that stand."""
 
 from bestheard.errors import InvalidCount, UnknownCell
-from bestheard.places import check_network, place_found, places_of, state_of, ties_by_target
+from bestheard.places import check_network, place_found, places_after, places_of, state_of
 from bestheard.words import is_number
 
 MOST_ROUNDS = 300
@@ -20,7 +20,7 @@ def one_round(tables, network, state):
     """Return the state in which each cell holds what it finds by looking at this state."""
     check_network(tables, network)
     places = places_of(tables, network, state)
-    return state_of(tables, network, _places_after(tables, network, places))
+    return state_of(tables, network, places_after(tables, network, places))
 
 
 def rounds_on(tables, network, state, many):
@@ -30,7 +30,7 @@ def rounds_on(tables, network, state, many):
     if not is_number(many, 0, MOST_ROUNDS):
         raise InvalidCount(many)
     for _ in range(many):
-        places = _places_after(tables, network, places)
+        places = places_after(tables, network, places)
     return state_of(tables, network, places)
 
 
@@ -38,14 +38,9 @@ def is_stand(tables, network, state):
     """Tell whether a round leaves the state as it is."""
     check_network(tables, network)
     places = places_of(tables, network, state)
-    return places == _places_after(tables, network, places)
+    return places == places_after(tables, network, places)
 
 
 def empty_state(network):
     """Return the state in which all cells hold nothing."""
     return {cell: None for cell in network.cells()}
-
-
-def _places_after(tables, network, places):
-    ties = ties_by_target(network)
-    return {cell: place_found(tables, network, cell, ties[cell], places) for cell in network.cells()}

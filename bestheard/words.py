@@ -1,4 +1,4 @@
-"""Words: names, options, numbers within bounds, and the names of cells that are made."""
+"""Words: names, options, numbers, and the names of cells that are made."""
 
 from bestheard.errors import InvalidCount
 
@@ -24,21 +24,25 @@ def _is_word(value, characters):
     return 1 <= len(value) <= LONGEST and all([character in characters for character in value])
 
 
+def is_integer(value):
+    """Tell whether any value is a number; booleans are no numbers."""
+    return isinstance(value, int) and not isinstance(value, bool)
+
+
 def is_number(value, least, most):
-    """Tell whether any value is a number from least to most; booleans are no numbers."""
-    if not isinstance(value, int) or isinstance(value, bool):
-        return False
-    return least <= value <= most
+    """Tell whether any value is a number from least to most."""
+    return is_integer(value) and least <= value <= most
 
 
 def cell_names(many):
     """Return the list of the first so many names in the sequence a, b, .., z, aa, ab and so on."""
     if not is_number(many, 0, MOST_NAMES):
         raise InvalidCount(many)
-    return [_cell_name(position) for position in range(many)]
+    return [cell_name(position) for position in range(many)]
 
 
-def _cell_name(position):
+def cell_name(position):
+    """Return the name at a position of that sequence, however far on."""
     # There is no letter for zero: z is followed by aa. So each letter counts from 1, not from 0.
     name = ""
     left = position + 1

@@ -12,6 +12,22 @@ from bestheard.words import cell_names
 AGES = ("field age 0 1 2\ntie link\nwhen age=2 do drop\nwhen always do age+\n"
         "cell plain age+\ncell root\nborn 0\n")
 
+# A rulebook that does not settle: what is said goes round for ever.
+ECHO = "field age 0 1\ntie link\nwhen always do keep\ncell plain age+\n"
+
+# A rulebook that settles, and in which a tie more can do harm: plain cells prefer a, which goes less far than b.
+LEVELS = ("field lv 0 1 2\nfield v a b\n"
+          "tie link\nwhen lv=2 do drop\nwhen lv=1 and v=a do drop\nwhen always do lv+\n"
+          "cell plain v+\ncell good\nborn 0 a\ncell bad\nborn 0 b\n")
+
+# 24 values and three kinds; it settles, with the delay 24.
+WIDE = ("field a 0 1 2 3 4 5\nfield b 0 1 2 3\n"
+        "tie link\nwhen a<5 do a+\nwhen b<3 do b+, a:0\nwhen always do drop\n"
+        "tie road\nwhen b<3 do b+\nwhen a<5 do a+\n"
+        "cell plain b+ a+\n"
+        "cell back b- a-\nwhen b>1 do drop\nwhen always do keep\n"
+        "cell root a- b+\nwhen a>3 and b>2 do keep\nwhen a<3 do a+\nborn 5 3\n")
+
 # Two fields, two ties, three kinds; with takings, keys of both directions and births.
 ROADS = ("field far 0 1 2\nfield via a b\n"
          "tie road\nwhen far=2 do drop\nwhen always do far+\n"

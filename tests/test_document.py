@@ -28,6 +28,38 @@ EXAMPLES = {
 >>> [list(net.walk('a')), net['c'], 'd' in net, len(net), net.ties_into('b')]
 [[('a', 0), ('b', 1), ('c', 2)], 'far', False, 3, [('link', 'a', 'b')]]
 """,
+    "runs": r"""
+>>> from bestheard.networks import Network
+>>> from bestheard.rulebooks import Rulebook
+>>> from bestheard.runs import Run
+>>> from bestheard.tables import tables_of
+>>> book = Rulebook.read('field age 0 1 2\ntie link\nwhen age=2 do drop\nwhen always do age+\n'
+...                      'cell plain age+\ncell root\nborn 0\n')
+>>> net = Network.read('cell a root\ncell b plain\ntie link a b\n')
+>>> run = Run(tables_of(book), net, [{'a': None, 'b': ('0',)}])
+>>> run.step({'b': [1], 'a': []})
+>>> run.step({'b': [1]})
+>>> [run.state_at(1), run.now(), run.phases, run.moment]
+[{'a': ('0',), 'b': None}, {'a': ('0',), 'b': ('1',)}, 1, 2]
+""",
+    "limits": r"""
+>>> from bestheard.limits import limit_rounds
+>>> from bestheard.rulebooks import Rulebook
+>>> from bestheard.tables import tables_of
+>>> book = Rulebook.read('field age 0 1\ntie link\nwhen age=0 do age+\ncell plain age+\n')
+>>> limit_rounds(tables_of(book))
+[{'plain': [2, 2, 2]}, {'plain': [-1, 2, 2]}, {'plain': [-1, -1, 2]}]
+""",
+    "deciding": r"""
+>>> from bestheard.deciding import decide, delay_of
+>>> from bestheard.rulebooks import Rulebook
+>>> from bestheard.tables import tables_of
+>>> aging = Rulebook.read('field age 0 1\ntie link\nwhen age=0 do age+\ncell plain age+\n')
+>>> echo = Rulebook.read('field age 0 1\ntie link\nwhen always do keep\ncell plain age+\n')
+>>> aging, echo = tables_of(aging), tables_of(echo)
+>>> [decide(aging).told(), delay_of(aging), decide(echo).told(), decide(echo).holds()]
+['settles', 2, 'splits', True]
+""",
     "reprs": r"""
 >>> from bestheard.networks import Network
 >>> from bestheard.rulebooks import Rulebook
@@ -39,6 +71,12 @@ Rulebook(2 fields, 1 ties, 1 kinds)
 Network(3 cells, 2 ties)
 >>> tables_of(Rulebook.read('field a 0 1 2\ntie t\nwhen always do keep\ncell k\ncell l\ncell m\n'))
 Tables(3 kinds, 1 ties, 4 places)
+>>> from bestheard.certificates import Settles
+>>> Settles(tables_of(book), [])
+Certificate(settles)
+>>> from bestheard.runs import Run
+>>> Run(tables_of(book), Network.read('cell a k\ncell b k\ncell c k\n'), [{'a': None, 'b': None, 'c': None}] * 5)
+Run(3 cells, moment 4)
 """,
 }
 

@@ -27,9 +27,13 @@ reverse rfind rjust rpartition rsplit rstrip setdefault split splitlines startsw
 upper values zfill bit_length title capitalize swapcase casefold center expandtabs removeprefix
 removesuffix rindex isascii isdecimal isnumeric istitle isidentifier isprintable add discard sort
 __init__""".split())
-BARRED = set("""type typing enum Enum IntEnum StrEnum Flag IntFlag Generic Protocol ABC ABCMeta
-namedtuple NamedTuple TypedDict abstractmethod register mro elements open input law version_info
-with_traceback add_note eval exec globals locals vars id dir help exit quit compile""".split())
+WORDS_BARRED = set("""type typing typing_extensions enum Enum IntEnum StrEnum Flag IntFlag Generic Protocol
+ABC ABCMeta namedtuple NamedTuple TypedDict TYPE_CHECKING abstractmethod dataclass overload
+contextmanager""".split())
+NAMES_BARRED = set("""register mro elements open input law version_info with_traceback add_note""".split())
+BARRED = WORDS_BARRED | NAMES_BARRED | set("""attrgetter breakpoint builtins compile copyright credits delattr dir
+eval exec exit gc getattr globals hasattr help id importlib license locals methodcaller os quit setattr super
+vars sys""".split())
 BARRED_NODES = (ast.Global, ast.AsyncFunctionDef, ast.Await, ast.AsyncFor, ast.AsyncWith, ast.Div,
                 ast.Import, ast.TryStar)
 DECORATORS = "^(property|staticmethod|classmethod|[a-z_]+[.]setter)$"
@@ -132,7 +136,13 @@ class WordsTest(unittest.TestCase):
             text = re.sub('"""[^"]*"""', "", path.read_text())
             rows = [line.partition("#")[0] for line in text.split("\n")]
             words = re.findall("[A-Za-z_]+", "\n".join(rows))
-            self.assertEqual(BARRED & set(words), set(), path)
+            self.assertEqual(WORDS_BARRED & set(words), set(), path)
+
+    def test_attributes_and_keywords(self):
+        for path in FILES:
+            names = {node.attr for node in nodes(path, ast.Attribute)} | {node.arg for node in nodes(path, ast.keyword)}
+            self.assertEqual(NAMES_BARRED & names, set(), path)
+            self.assertEqual({name for name in names if name and name.startswith("__")}, set(), path)
 
 
 class ClassesTest(unittest.TestCase):
