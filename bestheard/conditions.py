@@ -2,7 +2,7 @@
 
 from bestheard.checks import (are_alike, are_by_kind, are_positions, are_ties, held_places, is_list, is_pair, is_place,
                               rounds_hold, stand_places)
-from bestheard.limits import next_limits, uneven_pairs
+from bestheard.limits import next_limits, uneven_pairs, uneven_pairs_of
 from bestheard.pairings import apart_pairs, differ, next_both, next_with_more, worse_pairs
 from bestheard.places import places_after
 from bestheard.sides import Side
@@ -17,7 +17,7 @@ def limits_keep_firm(tables, kind, lies, rounds):
     """Tell whether these are rounds of limits that leave no uneven pair of the kind possible, whatever liars do."""
     if kind not in tables.kinds() or not are_ties(tables, lies) or not _limits_follow(tables, lies, rounds):
         return False
-    return kind not in [pair[0] for pair in uneven_pairs(tables, rounds[-1])]
+    return len(uneven_pairs_of(tables, kind, rounds[-1])) == 0
 
 
 def _limits_follow(tables, lies, rounds):

@@ -35,6 +35,22 @@ def next_limits(side, lies, limits):
     return capped(side, side, greatest)
 
 
+def rounds_until(first, next_of, wrong_of):
+    """Return the list of the first limits and the next ones, up to those by which nothing is wrong, or that stay."""
+    rounds = [first]
+    while len(wrong_of(rounds[-1])) > 0:
+        after = next_of(rounds[-1])
+        if after == rounds[-1]:
+            return rounds
+        rounds.append(after)
+    return rounds
+
+
 def uneven_pairs(tables, limits):
     """Return the list of the pairs that are possible by these limits and whose places differ."""
     return [pair for pair in possible_pairs(tables, limits) if pair[1] != pair[2]]
+
+
+def uneven_pairs_of(tables, kind, limits):
+    """Return the list of those uneven pairs that are pairs of this kind."""
+    return [pair for pair in uneven_pairs(tables, limits) if pair[0] == kind]

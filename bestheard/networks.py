@@ -23,13 +23,15 @@ class Network:
         *lines, rest = text.split("\n")
         network = cls()
         for number, line in enumerate(lines):
-            if not network._take(line.split(" ")):
+            if not network.take(line):
                 raise InvalidNetwork(number)
         if rest != "":
             raise InvalidNetwork(len(lines))
         return network
 
-    def _take(self, words):
+    def take(self, line):
+        """Read the next line of a text and tell whether it may stand there; a line that may not changes nothing."""
+        words = line.split(" ")
         try:
             if words[0] == "cell" and len(words) == 3 and len(self._ties) == 0:
                 self.add_cell(words[1], words[2])

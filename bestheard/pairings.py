@@ -32,8 +32,10 @@ def next_with_more(side, both):
 
 def apart_pairs(tables, others, seen, both):
     """Return the list of the pairs that are possible by both limits and whose holdings differ, as seen."""
+    one = {kind: tables.order(kind) for kind in tables.kinds()}
+    two = {kind: others.order(kind) for kind in others.kinds()}
     return [(kind, place, other) for kind, place, other in pairs_of(both[0], both[1])
-            if differ(tables.order(kind)[place], others.order(kind)[other], seen)]
+            if differ(one[kind][place], two[kind][other], seen)]
 
 
 def worse_pairs(both):

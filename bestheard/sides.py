@@ -15,6 +15,9 @@ class Side:
         self.births = {kind: tables.birth(kind) for kind in kinds}
         self.rows = {(tie, source, target): [tables.lead(tie, source, target, place) for place in range(tables.size)]
                      for tie in tables.ties() for source in kinds for target in kinds}
+        # The same, for each kind of sources.
+        self.ways = {kind: [(tie, target, row) for (tie, source, target), row in self.rows.items() if source == kind]
+                     for kind in kinds}
 
 
 def partners_of(near, far):

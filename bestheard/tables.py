@@ -13,7 +13,7 @@ def tables_of(book):
 
 def mixture(*books):
     """Return the tables of the mixture of 1 to 3 rulebooks."""
-    if not is_number(len(books), 1, MOST_BOOKS) or not all([_are_alike(books[0], book) for book in books]):
+    if not is_number(len(books), 1, MOST_BOOKS) or not all([are_books_alike(books[0], book) for book in books]):
         raise BooksDiffer()
     members = {}
     for number, book in enumerate(books):
@@ -22,7 +22,8 @@ def mixture(*books):
     return _tables_of_kinds(members, books[0].tie_names())
 
 
-def _are_alike(one, other):
+def are_books_alike(one, other):
+    """Tell whether two rulebooks have equal fields, and the same names of ties and of kinds in the same order."""
     return (one.fields() == other.fields() and one.tie_names() == other.tie_names()
             and one.kind_names() == other.kind_names())
 

@@ -106,17 +106,25 @@ class CertificateCase(unittest.TestCase):
 
     def check_copies(self):
         given = {name: value.clone() if name == "web" else copy.deepcopy(value) for name, value in self.given.items()}
+        self.check_copies_of(given, True)
+        for name in self.values():
+            for odd in ([["a"], ("b", ["c"])], {"plain": [{"a": ["b"]}]}):
+                self.check_copies_of({**given, name: copy.deepcopy(odd)}, False)
+
+    def check_copies_of(self, given, holds):
+        """Check that nothing changes if what was given, and then what is returned, is changed."""
+        given = {name: value.clone() if name == "web" else copy.deepcopy(value) for name, value in given.items()}
         found = self.shape(**given)
-        before = {name: getattr(found, name)() for name in given if name not in ("tables", "others")}
-        for name in before:
-            # What was given, and then what is returned, is changed.
+        names = [name for name in given if name not in ("tables", "others")]
+        before = {name: found.web() if name == "web" else copy.deepcopy(given[name]) for name in names}
+        for name in names:
             for value in (given[name], getattr(found, name)()):
                 spoiled(value)
                 if name == "web":
                     value.add_cell("spoiled", "plain")
-        for name in before:
+        for name in names:
             self.assertEqual(getattr(found, name)(), before[name])
-        self.assertIs(found.holds(), True)
+        self.assertIs(found.holds(), holds)
 
     def values(self):
         """Return the names of the parameters that may be any values."""

@@ -12,6 +12,12 @@ from bestheard.words import cell_names
 AGES = ("field age 0 1 2\ntie link\nwhen age=2 do drop\nwhen always do age+\n"
         "cell plain age+\ncell root\nborn 0\n")
 
+# The same names, but only the youngest are passed on; and one that does not settle, for nothing grows too old.
+SHORT = AGES.replace("when age=2 do drop", "when age>0 do drop")
+UNSETTLED = AGES.replace("when age=2 do drop\n", "")
+# A network for them.
+TEXT = "cell a root\ncell b plain\ncell c plain\ntie link a b\ntie link b c\n"
+
 # A rulebook that does not settle: what is said goes round for ever.
 ECHO = "field age 0 1\ntie link\nwhen always do keep\ncell plain age+\n"
 
@@ -27,6 +33,13 @@ WIDE = ("field a 0 1 2 3 4 5\nfield b 0 1 2 3\n"
         "cell plain b+ a+\n"
         "cell back b- a-\nwhen b>1 do drop\nwhen always do keep\n"
         "cell root a- b+\nwhen a>3 and b>2 do keep\nwhen a<3 do a+\nborn 5 3\n")
+
+# 24 values, each of which can stand: a row of so many cells counts them all.
+DEEP = ("field a 0 1 2 3 4 5\nfield b 0 1 2 3\n"
+        "tie link\nwhen a<5 do a+\nwhen b<3 do b+, a:0\n"
+        "cell plain b+ a+\n"
+        "cell picky b+ a+\nwhen b<2 do drop\nwhen always do keep\n"
+        "cell root\nwhen always do drop\nborn 0 0\n")
 
 # Two fields, two ties, three kinds; with takings, keys of both directions and births.
 ROADS = ("field far 0 1 2\nfield via a b\n"

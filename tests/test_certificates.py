@@ -247,6 +247,15 @@ class AgreeTest(PairsCase):
             if other.kinds() == one.kinds() and other.ties() == one.ties():
                 self.check(False, others=other, seen=[0])
 
+    def test_more_options_that_are_never_held(self):
+        text = "field v a b\ntie t\nwhen always do drop\ncell k\nborn a\n"
+        one, more = tables(text), tables(text, ("a b", "a b c"))
+        first, last = {"k": [2, 2, 2]}, {"k": [0, -1, -1]}
+        for seen in (None, [0], []):
+            self.check(True, tables=one, others=one, seen=seen, rounds=[(first, first), (last, last)])
+            self.check(False, tables=one, others=more, seen=seen, rounds=[(first, first), (last, last)])
+            self.check(False, tables=more, others=one, seen=seen, rounds=[(first, first), (last, last)])
+
 
 class HarmlessTest(PairsCase):
     shape = Harmless
@@ -271,10 +280,36 @@ class HarmlessTest(PairsCase):
         made = self.given["tables"]
         self.check(False, rounds=rounds_anew((BOTH_NONE, BOTH_NONE), lambda both: next_both_anew(made, made, both)))
 
+    def test_both_limits_must_let_a_pair_be_possible(self):
+        rounds = self.given["rounds"]
+        left, right = rounds[-1]
+        self.assertEqual([left["root"], right["root"]], [[0, -1, -1, -1]] * 2)
+        more, less = {**left, "root": [0, 0, -1, -1]}, {**right, "root": [1, -1, -1, -1]}
+        for both, holds in (((more, right), True), ((left, less), True), ((more, less), False)):
+            self.check(holds, rounds=[*rounds[:-1], both])
+
     def test_what_harms(self):
-        made = tables(LEVELS)
-        first = (all_none(made), all_none(made))
-        self.check(False, tables=made, rounds=rounds_anew(first, lambda both: next_with_more_anew(made, both)))
+        # In the second one what is preferred, and leads nowhere, is the very best.
+        for made in (tables(LEVELS), tables("field v a b c d e\ntie t\nwhen v=c do v:a\nwhen v=d do v:b\nwhen v=b do v:e\n"
+                                            "cell plain\ncell good\nborn c\ncell bad\nwhen always do drop\nborn d\n")):
+            first = (all_none(made), all_none(made))
+            rounds = rounds_anew(first, lambda both: next_with_more_anew(made, both))
+            self.assertTrue(any(p > q for _, p, q in possible(rounds[-1])))
+            self.check(False, tables=made, rounds=rounds)
+            # The right side misses nothing by the limits of point 18.
+            rounds = rounds_anew(first, lambda both: next_both_anew(made, made, both))
+            self.check(False, tables=made, rounds=rounds)
+
+    def test_a_tie_to_the_best_place_may_be_missed(self):
+        made = tables("field v a b\ntie t\nwhen v=b do v:a\ncell plain\ncell good\nwhen always do drop\nborn b\n")
+        first = all_none(made)
+        good = {"plain": [2, -1, 2], "good": [-1, 1, -1]}
+        right = {"plain": [0, -1, 2], "good": [-1, 1, -1]}
+        rounds = rounds_anew((first, first), lambda both: next_with_more_anew(made, both))
+        self.assertEqual(rounds[-1], (good, right))
+        self.check(True, tables=made, rounds=rounds)
+        self.check(False, tables=made, rounds=[*rounds[:-1], ({**good, "plain": [0, -1, 2]}, right)])
+        self.check(False, tables=made, rounds=[*rounds, ({**good, "plain": [0, -1, 2]}, right)])
 
 
 class FirmTest(LimitsCase):
@@ -344,6 +379,13 @@ class OpenTest(CertificateCase):
         self.check(True, standing={"root": (0, 0), "plain": (3, 2, 1, 1)})
         for kind, places in (("plain", [1, 2]), ("plain", [1, 3]), ("plain", [2, 3]), ("plain", []), ("root", [])):
             self.check(False, **self.changed("standing", [kind], places))
+
+    def test_births_stand_even_where_nothing_leads_to_them(self):
+        made = tables("field v a b\ntie t\nwhen always do v:a\ncell k\ncell l\nborn b\n")
+        pairs = {"k": [(0, 0), (2, 0), (2, 2)], "l": [(0, 0), (1, 0), (1, 1)]}
+        self.check(True, tables=made, standing={"k": [0, 2], "l": [0, 1]}, pairs=pairs)
+        self.check(False, tables=made, standing={"k": [0], "l": [0, 1]}, pairs=pairs)
+        self.check(False, tables=made, standing={"k": [0, 2], "l": [0]}, pairs=pairs)
 
     def test_more_may_stand_if_its_pairs_are_there(self):
         self.check(False, **self.changed("standing", ["plain"], [1, 2, 3, 0]))

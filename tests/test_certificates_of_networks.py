@@ -128,6 +128,13 @@ class PartTest(StatesCase):
             self.check(True, seen=seen, tables=others, others=self.given["tables"], first=changes["second"],
                        second=self.given["first"])
 
+    def test_positions_must_be_those_of_both_sides(self):
+        less = tables("field lv 0 1\ntie link\nwhen lv=0 do lv+\ncell plain lv+\ncell root\nborn 0\n")
+        changes = {"others": less, "second": state("a=0 b=1 c=-")}
+        self.check(False, seen=[1], **changes)
+        self.check(False, seen=[1], tables=less, others=self.given["tables"], first=changes["second"],
+                   second=self.given["first"])
+
     def test_each_state_must_be_a_stand_of_its_own_side(self):
         self.check(False, first=self.given["second"], second=self.given["first"])
         self.check(False, first=self.given["second"])

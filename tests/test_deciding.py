@@ -13,7 +13,7 @@ from bestheard.rulebooks import Rulebook
 from bestheard.runs import Run
 from bestheard.tables import mixture, tables_of
 from bestheard.words import cell_names
-from samples import AGES, ECHO, LEVELS, ROADS, WIDE, ErrorCase, Maker
+from samples import AGES, DEEP, ECHO, LEVELS, ROADS, WIDE, ErrorCase, Maker
 
 # Nothing that is offered is ever taken.
 DEAF = "field v a b\ntie one\nwhen always do keep\ncell deaf\nwhen always do drop\n"
@@ -228,6 +228,25 @@ class StandTest(ErrorCase):
             self.assertEqual(run.now(), stand)
             run.step_all(ago=1)
             self.assertEqual(run.now(), stand)
+
+    def test_runs_with_delays_rest_after_so_many_phases(self):
+        for seed in range(60):
+            maker = Maker(seed)
+            made = tables([AGES, LEVELS, DEEP][seed % 3])
+            delay = delay_of(made)
+            net = maker.network(made.kinds(), made.ties(), cells=4, many=8)
+            run = Run(made, net, [maker.state(net, made.order("plain")) for _ in range(3)])
+            seen = {}
+            while run.phases < delay:
+                looks = {}
+                for cell in net.cells():
+                    if maker.number(0, 3):
+                        # Not more than four moments back, and never ahead of what was seen last.
+                        late = [max(seen.get(tie, 0), len(run) - maker.number(1, 4), 0) for tie in net.ties_into(cell)]
+                        seen.update(zip(net.ties_into(cell), late))
+                        looks[cell] = [len(run) - moment for moment in late]
+                run.step(looks)
+            self.assertEqual(run.now(), stand_of(made, net))
 
     def test_what_is_passed_stays(self):
         made = tables(AGES)

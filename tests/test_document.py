@@ -60,6 +60,35 @@ EXAMPLES = {
 >>> [decide(aging).told(), delay_of(aging), decide(echo).told(), decide(echo).holds()]
 ['settles', 2, 'splits', True]
 """,
+    "asking": r"""
+>>> from bestheard.asking import harm, hidden_way, row_to, standing, sway
+>>> from bestheard.rulebooks import Rulebook
+>>> from bestheard.tables import tables_of
+>>> book = Rulebook.read('field age 0 1 2\ntie link\nwhen age=2 do drop\nwhen always do age+\n'
+...                      'cell plain age+\ncell root\nborn 0\n')
+>>> tables = tables_of(book)
+>>> net, cell = row_to(tables, 'plain', ('2',))
+>>> [standing(tables, 'plain'), net.text(), cell]
+[[('1',), ('2',), None], 'cell a root\ncell b plain\ncell c plain\ntie link a b\ntie link b c\n', 'c']
+>>> [harm(tables).told(), sway(tables, 'plain', 'link').told(), sway(tables, 'root', 'link').told()]
+['harmless', 'swayed', 'firm']
+>>> hidden_way(tables).told()
+'open'
+""",
+    "desk": r"""
+>>> from bestheard.desk import Desk
+>>> from bestheard.live import Live
+>>> from bestheard.rulebooks import Rulebook
+>>> book = Rulebook.read('field age 0 1 2\ntie link\nwhen age=2 do drop\nwhen always do age+\n'
+...                      'cell plain age+\ncell root\nborn 0\n')
+>>> desk = Desk(Live(book))
+>>> [desk.say('cell a root'), desk.say('cell b plain'), desk.say('tie link a b'), desk.say('value b')]
+['ok', 'ok', 'ok', '1']
+>>> desk.say('changed')
+'b'
+>>> [desk.say('delay'), desk.say('value c'), desk('kind a plain'), len(desk)]
+['3', 'error UnknownCell', 'ok', 8]
+""",
     "reprs": r"""
 >>> from bestheard.networks import Network
 >>> from bestheard.rulebooks import Rulebook
@@ -77,6 +106,10 @@ Certificate(settles)
 >>> from bestheard.runs import Run
 >>> Run(tables_of(book), Network.read('cell a k\ncell b k\ncell c k\n'), [{'a': None, 'b': None, 'c': None}] * 5)
 Run(3 cells, moment 4)
+>>> from bestheard.live import Live
+>>> drop = Rulebook.read('field a 0 1\ntie t\nwhen always do drop\ncell k\n')
+>>> Live(drop, network=Network.read('cell a k\ncell b k\ncell c k\ntie t a b\ntie t b c\n'))
+Live(3 cells, 2 ties)
 """,
 }
 

@@ -41,6 +41,7 @@ SPECIAL = set("""__init__ __eq__ __repr__ __str__ __len__ __enter__ __exit__ __c
 __contains__ __getitem__ __setitem__ __or__ __ior__""".split())
 # A doctest leaves a builtin of this name behind.
 BUILTIN_NAMES = set(dir(builtins)) - {"_"}
+CHANGING = set("append clear extend insert pop remove reverse setdefault update add discard sort".split())
 TAKE_LISTS = ("any", "all", "min", "max", "sum", "sorted")
 ATTRIBUTES_BARRED = set("""items keys values pop update append clear extend insert remove reverse setdefault
 sort args encode decode hex fromhex format format_map mro""".split())
@@ -55,6 +56,15 @@ def own_names():
     """Return the names of all functions, methods and classes of the package."""
     kinds = (ast.FunctionDef, ast.ClassDef)
     return {node.name for path in FILES for node in nodes(path, *kinds)}
+
+
+def gone_over(node):
+    """Return the nodes of what a loop goes over: itself, or what is in a call like enumerate(..) or ..items()."""
+    if not isinstance(node, ast.Call):
+        return [node]
+    if isinstance(node.func, ast.Attribute):
+        return [node.func.value]
+    return [] if node.func.id == "list" else node.args
 
 
 def bound_names(path):
@@ -225,6 +235,53 @@ class FormsTest(unittest.TestCase):
             local = {node.id for node in nodes(path, ast.Name) if not isinstance(node.ctx, ast.Load)}
             local |= {node.arg for node in nodes(path, ast.arg)}
             self.assertEqual(taken & local, set(), path)
+
+    def test_methods_are_called_where_they_stand(self):
+        methods = {node.name for path in FILES for holder in nodes(path, ast.ClassDef) for node in holder.body
+                   if isinstance(node, ast.FunctionDef) and not node.decorator_list}
+        for path in FILES:
+            found = nodes(path, ast.Call, ast.Attribute)
+            called = [node.func for node in found if isinstance(node, ast.Call)]
+            for node in found:
+                if isinstance(node, ast.Attribute) and node.attr in methods:
+                    self.assertIn(node, called, (path, node.lineno, node.attr))
+
+    def test_targets_have_at_most_one_pair_of_parentheses(self):
+        for path in FILES:
+            for node in nodes(path, ast.Tuple):
+                if isinstance(node.ctx, ast.Store):
+                    inner = [item for item in node.elts if isinstance(item, ast.Tuple)]
+                    self.assertFalse(any(isinstance(part, ast.Tuple) for item in inner for part in item.elts), path)
+
+    def test_one_lambda_on_a_line(self):
+        for path in FILES:
+            lines = [node.lineno for node in nodes(path, ast.Lambda)]
+            self.assertEqual(len(set(lines)), len(lines), path)
+
+    def test_loops_do_not_change_what_they_go_over(self):
+        for path in FILES:
+            for loop in nodes(path, ast.For):
+                over = {node.id for node in gone_over(loop.iter) if isinstance(node, ast.Name)}
+                for node in [inner for row in loop.body for inner in ast.walk(row)]:
+                    if isinstance(node, ast.Call) and isinstance(node.func, ast.Attribute):
+                        if node.func.attr in CHANGING and isinstance(node.func.value, ast.Name):
+                            self.assertNotIn(node.func.value.id, over, (path, node.lineno))
+                    if isinstance(node, ast.Subscript) and not isinstance(node.ctx, ast.Load):
+                        if isinstance(node.value, ast.Name):
+                            self.assertNotIn(node.value.id, over, (path, node.lineno))
+
+    def test_operators_and_properties_change_nothing(self):
+        for path in FILES:
+            for node in nodes(path, ast.FunctionDef):
+                over = [ast.unparse(item) for item in node.decorator_list]
+                quiet = node.name.startswith("__") and node.name not in ("__init__", "__call__", "__setitem__", "__ior__")
+                if not quiet and "property" not in over:
+                    continue
+                for inner in ast.walk(node):
+                    if isinstance(inner, (ast.Attribute, ast.Subscript)):
+                        self.assertIsInstance(inner.ctx, ast.Load, (path, node.name))
+                    if isinstance(inner, ast.Call) and isinstance(inner.func, ast.Attribute):
+                        self.assertNotIn(inner.func.attr, CHANGING, (path, node.name))
 
     def test_views_are_iterated_at_once(self):
         for path in FILES:

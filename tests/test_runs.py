@@ -26,8 +26,9 @@ def held(*options):
 
 
 def seen(run):
-    """Return all that can be seen of a run."""
-    return (len(run), run.moment, run.phases, repr(run), run.now(), [run.state_at(at) for at in range(len(run))])
+    """Return all that can be seen of a run, copied."""
+    states = [dict(run.state_at(at)) for at in range(len(run))]
+    return (len(run), run.moment, run.phases, repr(run), dict(run.now()), states)
 
 
 class RunCase(ErrorCase):
